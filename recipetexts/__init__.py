@@ -1,0 +1,1 @@
+"""Recipe texts: a small lazy language, read strictly and printed in one plain form."""
