@@ -1,12 +1,86 @@
-"""What every test here needs: recipes written as Python texts, one byte a sign (latin-1)."""
+"""What the tests here need: recipes written as Python texts, one byte a sign (latin-1), and trees as numbers."""
 
 import unittest
 
-from recipetexts.texts import plain, where
+from recipetexts.texts import plain, same, tree, where
+
+# One text for each refusal of reading.
+REFUSED = (
+    (" " * 2049, -1), ("a !", -2), ("a )", -3), ("(" * 40 + "1", -4), ("{ a = 1; a = 2; }", -5), ("1 " * 41, -6),
+)
+
+# The signs of two operands, in the order of their kinds.
+OPERATORS = ("or", "and", "==", "!=", "<", "<=", "//", "++", "+", "-", "*")
 
 
 def as_bytes(written):
     return list(written.encode("latin-1"))
+
+
+def tree_of(written):
+    return tree(as_bytes(written))
+
+
+def node(kind, labels, *kids):
+    """The numbers of a node, whose kids are handed in as numbers."""
+    numbers = [kind, len(labels)]
+    for label in labels:
+        numbers += [len(label)] + as_bytes(label)
+    numbers.append(len(kids))
+    for kid in kids:
+        numbers += kid
+    return numbers
+
+
+def unfold(numbers):
+    """The tree that the numbers tell, as (kind, labels, kids); there must be neither too few nor too many."""
+    place = 0
+
+    def take(count):
+        nonlocal place
+        taken = numbers[place:place + count]
+        assert len(taken) == count, "too few numbers"
+        place += count
+        return taken
+
+    def unfold_node():
+        kind, label_count = take(2)
+        labels = [bytes(take(take(1)[0])).decode("latin-1") for label in range(label_count)]
+        return kind, labels, [unfold_node() for kid in range(take(1)[0])]
+
+    unfolded = unfold_node()
+    assert place == len(numbers), "too many numbers"
+    return unfolded
+
+
+def fold(unfolded):
+    kind, labels, kids = unfolded
+    return node(kind, labels, *[fold(kid) for kid in kids])
+
+
+def row(depth):
+    """An applying no deeper than told, in its signs; a number stands for a list that may hold so deep a tree.
+
+    It ends with `1a`, as there the bracket behind it parts the name from the next one, at no cost.
+    """
+    count = depth - (depth + 1) % 3
+    return [("1", "a", depth - count + place - 1)[place % 3] for place in range(count)]
+
+
+def written_row(signs):
+    return "".join("[]" if isinstance(sign, int) else sign for sign in signs)
+
+
+def crowded_recipe():
+    """2048 bytes with three nodes for every two of them: applyings cost no byte, and lists part the names."""
+    signs = row(40)
+    while len(written_row(signs)) < 2048:
+        depth = max(sign for sign in signs if isinstance(sign, int))
+        place = signs.index(depth)
+        while len(written_row(signs) + written_row(row(depth))) > 2048:
+            depth -= 1
+        signs[place:place + 1] = ["["] + row(depth) + ["]"]
+    return written_row(signs)
 
 
 class RecipeTest(unittest.TestCase):
@@ -16,11 +90,29 @@ class RecipeTest(unittest.TestCase):
         self.assertEqual(where(as_bytes(written)), [0, 0], written)
 
     def assert_prints(self, written, printed):
-        """The print comes out, and it is its own print."""
+        """The print comes out, it is its own print, and it has the same tree."""
         self.assert_reads(written)
         self.assertEqual(plain(as_bytes(written)), [0] + as_bytes(printed), written)
         self.assertEqual(plain(as_bytes(printed)), [0] + as_bytes(printed), printed)
+        self.assert_same(written, printed)
 
     def assert_fault(self, written, number, place):
-        self.assertEqual(where(as_bytes(written)), [number, place], written)
-        self.assertEqual(plain(as_bytes(written)), [-number], written)
+        text = as_bytes(written)
+        self.assertEqual(where(text), [number, place], written)
+        self.assertEqual(plain(text), [-number], written)
+        self.assertEqual(tree(text), [-number], written)
+        self.assertEqual(same(text, as_bytes("1")), [-number], written)
+        self.assertEqual(same(as_bytes("1"), text), [-number - 10], written)
+
+    def assert_tree(self, written, numbers):
+        self.assertEqual(tree_of(written), [0] + numbers, written)
+
+    def assert_same(self, first, second):
+        self.assertEqual(same(as_bytes(first), as_bytes(second)), [1], (first, second))
+        self.assertEqual(same(as_bytes(second), as_bytes(first)), [1], (second, first))
+
+    def assert_differ(self, first, second):
+        self.assert_same(first, first)
+        self.assert_same(second, second)
+        self.assertEqual(same(as_bytes(first), as_bytes(second)), [0], (first, second))
+        self.assertEqual(same(as_bytes(second), as_bytes(first)), [0], (second, first))

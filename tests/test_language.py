@@ -143,6 +143,11 @@ class Forms(unittest.TestCase):
             for part in node.body:
                 self.assertIsInstance(part, ast.FunctionDef, "L5")
 
+    def test_init_gives_nothing_back(self):
+        for name, node in nodes_of(ast.FunctionDef):
+            if node.name == "__init__":
+                self.assertFalse([part for part in ast.walk(node) if isinstance(part, ast.Return)], "L28: " + name)
+
     def test_single_rows(self):
         for name, node in nodes_of(ast.Assign):
             self.assertEqual(len(node.targets), 1, "L6")
@@ -167,7 +172,7 @@ class Names(unittest.TestCase):
         for kind, field in kinds.items():
             for name, node in nodes_of(kind):
                 called = getattr(node, field)
-                self.assertTrue(called == "__init__" or PLAIN_NAME.match(called), "L12: " + called)
+                self.assertTrue(called == "__init__" or PLAIN_NAME.match(called), "L12, L28: " + called)
                 self.assertNotIn(called, NEVER_NAMED, "L17")
 
     def test_pythons_own_names(self):

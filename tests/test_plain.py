@@ -3,7 +3,7 @@
 import unittest
 
 from recipetexts.texts import plain, where
-from tests.helper import RecipeTest, as_bytes
+from tests.helper import OPERATORS, REFUSED, RecipeTest, as_bytes
 
 # A recipe of each rank, as it is printed.
 RANKED = (
@@ -98,7 +98,7 @@ class EachKind(RecipeTest):
         self.assert_prints("must(a);(b)", "must a; b")
 
     def test_two_operands(self):
-        for sign in ["or", "and", "==", "!=", "<", "<=", "//", "++", "+", "-", "*"]:
+        for sign in OPERATORS:
             self.assert_prints("(a)" + sign + "(b)", "a " + sign + " b")
 
 
@@ -175,10 +175,7 @@ class Refusals(RecipeTest):
         self.assert_prints('"' + "a" * 2046 + '"', '"' + "a" * 2046 + '"')
 
     def test_each_refusal_of_reading(self):
-        for written, refusal in [
-            (" " * 2049, -1), ("a !", -2), ("a )", -3), ("(" * 40 + "1", -4),
-            ("{ a = 1; a = 2; }", -5), ("1 " * 41, -6),
-        ]:
+        for written, refusal in REFUSED:
             self.assertEqual(plain(as_bytes(written)), [refusal])
 
 
