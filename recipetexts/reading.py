@@ -1,12 +1,11 @@
 """Reading a text's tree by the grammar."""
 
 from recipetexts.cutting import cut
-from recipetexts.refusals import LevelTooDeep, NameTwice, TextTooLong, TreeTooDeep, WrongSyntax
-from recipetexts.trees import Node
+from recipetexts.refusals import LevelTooDeep, NameTwice, TextTooLong, WrongSyntax
+from recipetexts.trees import Node, refuse_deep
 
 MOST_TEXT_BYTES = 2048
 MOST_LEVELS = 40
-MOST_DEPTH = 40
 
 # For each part of the grammar its choices. A choice is taken where its first symbol fits the
 # token that stands there; where none fits, the last one is taken. A symbol is a part (in
@@ -177,6 +176,5 @@ def read(text):
     while reader.waiting:
         reader.step()
     tree = reader.built[0]
-    if tree.depth > MOST_DEPTH:
-        raise TreeTooDeep()
+    refuse_deep(tree)
     return tree

@@ -37,6 +37,17 @@ class TreeTooDeep(Refusal):
         Refusal.__init__(self, 6, 0)
 
 
+class PathNowhere(Refusal):
+    def __init__(self):
+        Refusal.__init__(self, 7, 0)
+
+
 class PrintTooLong(Refusal):
     def __init__(self):
         Refusal.__init__(self, 8, 0)
+
+
+# The second of two texts can't be read; why is told by the refusal that its reading met.
+class SecondText(Refusal):
+    def __init__(self, met):
+        Refusal.__init__(self, 10 + met.number, met.place)

@@ -1,12 +1,10 @@
 """The calls: each answers from its arguments alone."""
 
+from recipetexts.paths import part_at, put_at
 from recipetexts.printing import print_short
 from recipetexts.reading import read
-from recipetexts.refusals import Refusal
-from recipetexts.trees import numbers_of
-
-# How much less a refusal is where it is the second text that can't be read.
-SECOND_TEXT = 10
+from recipetexts.refusals import Refusal, SecondText
+from recipetexts.trees import numbers_of, refuse_deep
 
 
 def plain(text):
@@ -31,14 +29,37 @@ def tree(text):
         return [-refusal.number]
 
 
+def read_second(text):
+    try:
+        return read(text)
+    except Refusal as refusal:
+        raise SecondText(refusal) from refusal
+
+
 def same(a, b):
     try:
         first = numbers_of(read(a))
+        second = numbers_of(read_second(b))
     except Refusal as refusal:
         return [-refusal.number]
-    try:
-        second = numbers_of(read(b))
-    except Refusal as refusal:
-        return [-refusal.number - SECOND_TEXT]
     # Trees with the same numbers are the same tree.
     return [1 if first == second else 0]
+
+
+def part(text, path):
+    try:
+        return [0] + print_short(part_at(read(text), path))
+    except Refusal as refusal:
+        return [-refusal.number]
+
+
+def put(text, path, other):
+    try:
+        # Both texts are read before the path is followed: their refusals come first.
+        whole = read(text)
+        inner = read_second(other)
+        changed = put_at(whole, path, inner)
+        refuse_deep(changed)
+        return [0] + print_short(changed)
+    except Refusal as refusal:
+        return [-refusal.number]

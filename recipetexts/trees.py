@@ -4,6 +4,10 @@ A node's kind is the document's name for it, a sign where the document has a sig
 of a function with `..` among its parameters is called `fields..` here.
 """
 
+from recipetexts.refusals import TreeTooDeep
+
+MOST_DEPTH = 40
+
 KIND_NUMBERS = {
     "piece": 0, "num": 1, "yes": 2, "no": 3, "none": 4, "name": 5, "text": 6, "list": 7,
     "record": 8, "recur": 9, "get": 10, "app": 11, "neg": 12, "not": 13, "has": 14,
@@ -20,6 +24,11 @@ class Node:
         self.kids = kids
         # Kept with each node, as a tree may be too deep to be gone through by calls.
         self.depth = 1 + max([kid.depth for kid in kids], default=0)
+
+
+def refuse_deep(tree):
+    if tree.depth > MOST_DEPTH:
+        raise TreeTooDeep()
 
 
 def numbers_of_labels(labels):

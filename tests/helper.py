@@ -2,7 +2,7 @@
 
 import unittest
 
-from recipetexts.texts import plain, same, tree, where
+from recipetexts.texts import part, plain, put, same, tree, where
 
 # One text for each refusal of reading.
 REFUSED = (
@@ -11,6 +11,38 @@ REFUSED = (
 
 # The signs of two operands, in the order of their kinds.
 OPERATORS = ("or", "and", "==", "!=", "<", "<=", "//", "++", "+", "-", "*")
+
+# A recipe of each rank, as it is printed.
+RANKED = (
+    "fn x: x", "a or b", "a and b", "not a", "a == b", "a // b", "a ++ b",
+    "a + b", "a * b", "-a", "f a", "r.a", "a",
+)
+
+# Where a kid stands (as @), the rank at which it is printed there, and the path that leads there.
+RANKED_PLACES = (
+    ("@.k", 12, [0]), ("@.k ? z", 12, [0]), ("r.k ? @", 12, [1]),
+    ("@ y", 10, [0]), ("f @", 11, [1]), ("-@", 9, [0]), ("not @", 3, [0]), ("@ has k", 5, [0]),
+    ("@ or z", 1, [0]), ("z or @", 2, [1]), ("@ and z", 2, [0]), ("z and @", 3, [1]),
+    ("@ == z", 5, [0]), ("z == @", 5, [1]), ("@ != z", 5, [0]), ("z != @", 5, [1]),
+    ("@ < z", 5, [0]), ("z < @", 5, [1]), ("@ <= z", 5, [0]), ("z <= @", 5, [1]),
+    ("@ // z", 6, [0]), ("z // @", 5, [1]), ("@ ++ z", 7, [0]), ("z ++ @", 6, [1]),
+    ("@ + z", 7, [0]), ("z + @", 8, [1]), ("@ - z", 7, [0]), ("z - @", 8, [1]), ("@ * z", 8, [0]), ("z * @", 9, [1]),
+)
+
+# Where kids are printed as they are, whatever their rank, and the paths that lead there.
+PLAIN_PLACES = (
+    ('"${@}"', [[0]]), ('"a${@}b${@}"', [[1], [3]]), ('"${@}${@}c"', [[0], [1]]),
+    ("[@]", [[0]]), ("[@, @]", [[0], [1]]), ("[@, @, @]", [[0], [1], [2]]),
+    ("{ a = @; }", [[0]]), ("{ a = @; b = @; }", [[0], [1]]), ("rec { a = @; b = @; }", [[0], [1]]),
+    ("fn x: @", [[0]]), ("fn {}: @", [[0]]), ("fn {..}: @", [[0]]), ("fn {a, b}: @", [[2]]), ("fn {a, ..}: @", [[1]]),
+    ("fn {a ? @}: @", [[0, 0], [1]]), ("fn {a ? @, b ? @, ..}: @", [[0, 0], [1, 0], [2]]),
+    ("fn {a, b ? @, c}: @", [[1, 0], [3]]),
+    ("let a = @; in @", [[0], [1]]), ("let a = @; b = @; in @", [[0], [1], [2]]),
+    ("if @ then @ else @", [[0], [1], [2]]), ("must @; @", [[0], [1]]),
+)
+
+# Paths that lead nowhere in a tree of at most 1000 kids: no tree is 64 steps deep.
+NOWHERE = ([-1], [1000], [10 ** 18], [-10 ** 18], [0] * 64, [-1] * 64)
 
 
 def as_bytes(written):
@@ -58,6 +90,35 @@ def fold(unfolded):
     return node(kind, labels, *[fold(kid) for kid in kids])
 
 
+def depth_of(unfolded):
+    return 1 + max([depth_of(kid) for kid in unfolded[2]], default=0)
+
+
+def lead(unfolded, path):
+    """The tree to which the path leads, None if it leads nowhere."""
+    for number in path:
+        if number not in range(len(unfolded[2])):
+            return None
+        unfolded = unfolded[2][number]
+    return None if unfolded[0] in (0, 18) else unfolded
+
+
+def replace(unfolded, path, other):
+    """The tree with the other one in the place to which the path leads."""
+    if not path:
+        return other
+    kind, labels, kids = unfolded
+    new = [replace(kid, path[1:], other) if path[0] == k else kid for k, kid in enumerate(kids)]
+    return kind, labels, new
+
+
+def fill(place, kids):
+    """What is written in a place of the lists above, with each kid in its turn."""
+    first, *others = place.split("@")
+    assert len(others) == len(kids), place
+    return first + "".join(kid + other for kid, other in zip(kids, others))
+
+
 def row(depth):
     """An applying no deeper than told, in its signs; a number stands for a list that may hold so deep a tree.
 
@@ -103,6 +164,10 @@ class RecipeTest(unittest.TestCase):
         self.assertEqual(tree(text), [-number], written)
         self.assertEqual(same(text, as_bytes("1")), [-number], written)
         self.assertEqual(same(as_bytes("1"), text), [-number - 10], written)
+        for path in [[], [1000]]:
+            self.assertEqual(part(text, path), [-number], written)
+            self.assertEqual(put(text, path, as_bytes("1")), [-number], written)
+            self.assertEqual(put(as_bytes("1"), path, text), [-number - 10], written)
 
     def assert_tree(self, written, numbers):
         self.assertEqual(tree_of(written), [0] + numbers, written)
@@ -116,3 +181,13 @@ class RecipeTest(unittest.TestCase):
         self.assert_same(second, second)
         self.assertEqual(same(as_bytes(first), as_bytes(second)), [0], (first, second))
         self.assertEqual(same(as_bytes(second), as_bytes(first)), [0], (second, first))
+
+    def assert_part(self, written, path, printed):
+        self.assertEqual(part(as_bytes(written), path), [0] + as_bytes(printed), (written, path))
+        self.assertEqual(plain(as_bytes(printed)), [0] + as_bytes(printed), printed)
+
+    def assert_put(self, written, path, other, printed):
+        """The print comes out, it is its own print, and what was put in is there."""
+        self.assertEqual(put(as_bytes(written), path, as_bytes(other)), [0] + as_bytes(printed), (written, path, other))
+        self.assertEqual(plain(as_bytes(printed)), [0] + as_bytes(printed), printed)
+        self.assertEqual(part(as_bytes(printed), path), plain(as_bytes(other)), (written, path, other))

@@ -3,8 +3,8 @@
 import random
 import unittest
 
-from recipetexts.texts import plain, same, tree, where
-from tests.helper import as_bytes, fold, unfold
+from recipetexts.texts import part, plain, put, same, tree, where
+from tests.helper import as_bytes, depth_of, fold, lead, replace, unfold
 
 SCRAPS = (
     "a", "b", "x-", "1", "0", "12", '"', '"', "${", "}", "{", "(", ")", "[", "]", "=", ";", ",", ".", "..", ":", "?",
@@ -37,6 +37,19 @@ def random_texts():
             yield [byte] * length
 
 
+def random_paths():
+    """Without end: most of the numbers are such that many a path leads somewhere."""
+    source = random.Random(11162026)
+    while True:
+        length = source.choice([0, 1, 1, 1, 2, 2, 3, 4, 8, 63, 64])
+        path = [source.choice([0, 0, 0, 1, 1, 2]) for step in range(length)]
+        if path and source.randrange(4) == 0:
+            path[source.randrange(length)] = source.choice(
+                [-1, -2, 3, 2048, 10 ** 18, -10 ** 18, source.randrange(-10 ** 18, 10 ** 18)]
+            )
+        yield path
+
+
 # How many labels and kids a node of each kind may have, as the least and the most (None: no most).
 SHAPES = {
     0: (1, 1, 0, 0), 1: (1, 1, 0, 0), 2: (0, 0, 0, 0), 3: (0, 0, 0, 0), 4: (0, 0, 0, 0), 5: (1, 1, 0, 0),
@@ -45,10 +58,6 @@ SHAPES = {
     12: (0, 0, 1, 1), 13: (0, 0, 1, 1), 19: (1, None, 2, None), 20: (0, 0, 3, 3),
 }
 TWO_OPERANDS = (0, 0, 2, 2)
-
-
-def depth_of(unfolded):
-    return 1 + max([depth_of(kid) for kid in unfolded[2]], default=0)
 
 
 def is_within(count, least, most):
@@ -122,6 +131,58 @@ class Answers(unittest.TestCase):
         else:
             self.assertEqual(compared, [int(first == second)])
 
+    def test_any_path_is_answered(self):
+        last = as_bytes("f x")
+        answers = {}
+        for text, path in zip(random_texts(), random_paths()):
+            before = list(text), list(path), list(last)
+            found, changed, changed_back = part(text, path), put(text, path, last), put(last, path, text)
+            self.assertEqual((text, path, last), before)
+            for answer in [found, changed, changed_back]:
+                self.check_kinds(answer)
+                answers[answer[0]] = answers.get(answer[0], 0) + 1
+            self.check_part(found, tree(text), path)
+            self.check_put(changed, tree(text), path, tree(last))
+            self.check_put(changed_back, tree(last), path, tree(text))
+            if tree(text)[0] == 0:
+                last = text
+        for answer in [0, -1, -2, -3, -7, -11, -12, -13]:
+            self.assertIn(answer, answers)
+
+    def check_part(self, found, told, path):
+        if told[0] < 0:
+            self.assertEqual(found, told)
+            return
+        expected = lead(unfold(told[1:]), path)
+        if expected is None:
+            self.assertEqual(found, [-7])
+        else:
+            self.check_print_of(found, expected)
+
+    def check_put(self, changed, told, path, other):
+        if told[0] < 0:
+            self.assertEqual(changed, told)
+            return
+        if other[0] < 0:
+            self.assertEqual(changed, [other[0] - 10])
+            return
+        whole = unfold(told[1:])
+        if lead(whole, path) is None:
+            self.assertEqual(changed, [-7])
+            return
+        expected = replace(whole, path, unfold(other[1:]))
+        if depth_of(expected) > 40:
+            self.assertEqual(changed, [-6])
+        else:
+            self.check_print_of(changed, expected)
+
+    def check_print_of(self, printed, unfolded):
+        if printed != [-8]:
+            self.assertEqual(printed[0], 0)
+            self.assertLessEqual(len(printed), 2049)
+            self.assertEqual(plain(printed[1:]), printed)
+            self.assertEqual(tree(printed[1:]), [0] + fold(unfolded))
+
     def test_what_is_handed_in_is_never_changed(self):
         for written in ["let a = [1, {}]; in \"x${a}\\n\"", "-" * 2000 + "1", "(" * 41, "{ a = 1; a", '"', ""]:
             text, other = ReadOnly(as_bytes(written)), ReadOnly(as_bytes("f x"))
@@ -131,23 +192,34 @@ class Answers(unittest.TestCase):
             same(text, other)
             same(other, text)
             same(text, text)
+            for steps in [[], [0], [1, 0], [1], [0, 1, 2], [-1]]:
+                path = ReadOnly(steps)
+                part(text, path)
+                put(text, path, other)
+                put(other, path, text)
+                put(text, path, text)
+                self.assertEqual(path, steps)
             self.assertEqual(text, as_bytes(written))
             self.assertEqual(other, as_bytes("f x"))
 
     def test_nothing_is_kept(self):
         text = as_bytes("{ a = f x; }")
         told = list(tree(text))
-        for answer in [plain(text), where(text), tree(text), same(text, text)]:
+        for answer in [plain(text), where(text), tree(text), same(text, text), part(text, [0]), put(text, [0], text)]:
             answer.append(7)
             answer[0] = 7
         where(as_bytes("(" * 41))
         plain(as_bytes("{ a = 1; b = 2; a"))
         tree(as_bytes("-" * 2000 + "1"))
         same(text, as_bytes("{ a = f y"))
+        part(text, [0, 2])
+        put(text, [0, 1], as_bytes("g"))
         self.assertEqual(plain(text), [0] + text)
         self.assertEqual(where(text), [0, 0])
         self.assertEqual(tree(text), told)
         self.assertEqual(same(text, text), [1])
+        self.assertEqual(part(text, [0, 1]), [0] + as_bytes("x"))
+        self.assertEqual(put(text, [0, 0], as_bytes("g")), [0] + as_bytes("{ a = g x; }"))
 
     def test_the_answer_is_not_the_text_itself(self):
         for written in ["abc", "123", '"abc"']:
@@ -155,6 +227,8 @@ class Answers(unittest.TestCase):
             plain(text).clear()
             tree(text).clear()
             same(text, text).clear()
+            part(text, []).clear()
+            put(as_bytes("1"), [], text).clear()
             self.assertEqual(text, as_bytes(written))
 
 

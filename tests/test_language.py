@@ -32,6 +32,7 @@ METHODS = set(
     " setdefault split splitlines startswith strip update upper values zfill bit_length".split()
 )
 WALKED_AT_ONCE = ("zip", "enumerate", "reversed", "range")
+WALKERS = ("list", "tuple", "dict", "sorted", "sum", "any", "all", "enumerate", "zip")
 NEVER_NAMED = set("register mro elements open input version_info with_traceback add_note format format_map".split())
 NEVER_WRITTEN = re.compile(
     r"\b(type|typing|typing_extensions|enum|Enum|IntEnum|StrEnum|Flag|IntFlag|Generic|Protocol|ABC|ABCMeta|namedtuple"
@@ -212,6 +213,9 @@ class Names(unittest.TestCase):
         walked = []
         for name, node in nodes_of((ast.For, ast.comprehension)):
             walked.append(ast.unparse(node.iter))
+        for name, node in nodes_of(ast.Call):
+            if ast.unparse(node.func) in WALKERS and node.args:
+                walked.append(ast.unparse(node.args[0]))
         for name, node in nodes_of(ast.Call):
             if isinstance(node.func, ast.Name) and node.func.id in WALKED_AT_ONCE:
                 self.assertIn(ast.unparse(node), walked, "L23")

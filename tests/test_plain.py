@@ -3,31 +3,7 @@
 import unittest
 
 from recipetexts.texts import plain, where
-from tests.helper import OPERATORS, REFUSED, RecipeTest, as_bytes
-
-# A recipe of each rank, as it is printed.
-RANKED = (
-    "fn x: x", "a or b", "a and b", "not a", "a == b", "a // b", "a ++ b",
-    "a + b", "a * b", "-a", "f a", "r.a", "a",
-)
-
-# Where a kid stands (as @), and the rank at which it is printed there.
-RANKED_PLACES = (
-    ("@.k", 12), ("@.k ? z", 12), ("r.k ? @", 12),
-    ("@ y", 10), ("f @", 11), ("-@", 9), ("not @", 3), ("@ has k", 5),
-    ("@ or z", 1), ("z or @", 2), ("@ and z", 2), ("z and @", 3),
-    ("@ == z", 5), ("z == @", 5), ("@ != z", 5), ("z != @", 5),
-    ("@ < z", 5), ("z < @", 5), ("@ <= z", 5), ("z <= @", 5),
-    ("@ // z", 6), ("z // @", 5), ("@ ++ z", 7), ("z ++ @", 6),
-    ("@ + z", 7), ("z + @", 8), ("@ - z", 7), ("z - @", 8), ("@ * z", 8), ("z * @", 9),
-)
-
-# Where a kid is printed as it is, whatever its rank.
-PLAIN_PLACES = (
-    '"${@}"', '"a${@}b${@}"', "[@]", "[@, @]", "{ a = @; b = @; }", "rec { a = @; b = @; }",
-    "fn x: @", "fn {}: @", "fn {..}: @", "fn {a ? @}: @", "fn {a ? @, b ? @, ..}: @",
-    "let a = @; b = @; in @", "if @ then @ else @", "must @; @",
-)
+from tests.helper import OPERATORS, PLAIN_PLACES, RANKED, RANKED_PLACES, REFUSED, RecipeTest, as_bytes
 
 
 class EachKind(RecipeTest):
@@ -104,13 +80,13 @@ class EachKind(RecipeTest):
 
 class Parentheses(RecipeTest):
     def test_each_ranked_place(self):
-        for place, rank in RANKED_PLACES:
+        for place, rank, path in RANKED_PLACES:
             for kid_rank, kid in enumerate(RANKED):
                 inner = kid if kid_rank >= rank else "(" + kid + ")"
                 self.assert_prints(place.replace("@", "( (" + kid + ") )"), place.replace("@", inner))
 
     def test_each_place_without_a_rank(self):
-        for place in PLAIN_PLACES:
+        for place, paths in PLAIN_PLACES:
             for kid in RANKED:
                 self.assert_prints(place.replace("@", "(" + kid + ")"), place.replace("@", kid))
 

@@ -1,10 +1,10 @@
-"""Trees made at random, written with blanks, comments and parentheses at random, then told and compared."""
+"""Trees made at random, written with blanks, comments and parentheses at random, then told, compared and cut."""
 
 import random
 import unittest
 
-from recipetexts.texts import plain, same, tree
-from tests.helper import OPERATORS, as_bytes, fold, unfold
+from recipetexts.texts import part, plain, put, same, tree
+from tests.helper import OPERATORS, as_bytes, depth_of, fold, lead, replace, unfold
 
 NAMES = ("a", "b", "x-", "letter", "B_2", "or-else")
 NUMBERS = ("0", "7", "10", "9" * 30)
@@ -149,6 +149,14 @@ def short_recipes(count):
             count -= 1
 
 
+def paths_of(unfolded):
+    """The paths to all the nodes of a tree, to pieces and params too."""
+    yield []
+    for k, kid in enumerate(unfolded[2]):
+        for path in paths_of(kid):
+            yield [k] + path
+
+
 class RandomTrees(unittest.TestCase):
     def test_the_tree_is_told_as_it_was_made(self):
         met = set()
@@ -174,6 +182,47 @@ class RandomTrees(unittest.TestCase):
                 self.assertEqual(same(first, text), [int(made == other)], (bytes(first), bytes(text)))
                 equal += made == other
         self.assertGreater(equal, 60)
+
+    def test_each_part_is_printed_as_if_it_stood_alone(self):
+        writer = Writer(7)
+        for made, first, second in short_recipes(150):
+            for path in paths_of(made):
+                found, answer = lead(made, path), part(first, path)
+                if found is None:
+                    self.assertEqual(answer, [-7], (bytes(first), path))
+                else:
+                    self.assertEqual(answer, plain(as_bytes(writer.write(found))), (bytes(first), path))
+
+    def test_what_is_put_in_is_printed_as_if_it_had_been_written(self):
+        source, writer = random.Random(8), Writer(9)
+        answers = {}
+        recipes = [(made, first) for made, first, second in short_recipes(300)]
+        for made, first in recipes:
+            for count in range(6):
+                other, text = source.choice(recipes)
+                path = source.choice(list(paths_of(made)))
+                answer = put(first, path, text)
+                answers[answer[0]] = answers.get(answer[0], 0) + 1
+                self.check_put(answer, made, path, other, writer)
+        self.assertGreater(min(answers[0], answers[-7]), 50)
+
+    def check_put(self, answer, made, path, other, writer):
+        if lead(made, path) is None:
+            self.assertEqual(answer, [-7])
+            return
+        expected = replace(made, path, other)
+        self.assertLessEqual(depth_of(expected), 40)
+        self.assertEqual(tree(answer[1:]), [0] + fold(expected), bytes(answer[1:]))
+        written = as_bytes(writer.write(expected))
+        if len(written) <= 2048:
+            self.assertEqual(answer, plain(written), bytes(written))
+
+    def test_a_part_put_back_changes_nothing(self):
+        for made, first, second in short_recipes(80):
+            for path in paths_of(made):
+                found = part(first, path)
+                if found[0] == 0:
+                    self.assertEqual(put(second, path, found[1:]), plain(first), (bytes(first), path))
 
 
 if __name__ == "__main__":
