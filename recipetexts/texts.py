@@ -1,10 +1,10 @@
 """The calls: each answers from its arguments alone."""
 
 from recipetexts.paths import part_at, put_at
-from recipetexts.printing import print_short
+from recipetexts.printing import print_short, print_whole
 from recipetexts.reading import read
 from recipetexts.refusals import Refusal, SecondText
-from recipetexts.trees import numbers_of, refuse_deep
+from recipetexts.trees import nodes_of, numbers_of, refuse_deep
 
 
 def plain(text):
@@ -63,3 +63,11 @@ def put(text, path, other):
         return [0] + print_short(changed)
     except Refusal as refusal:
         return [-refusal.number]
+
+
+def sizes(text):
+    try:
+        whole = read(text)
+    except Refusal as refusal:
+        return [-refusal.number]
+    return [0, len(nodes_of(whole)), whole.depth, len(print_whole(whole))]

@@ -31,6 +31,18 @@ def refuse_deep(tree):
         raise TreeTooDeep()
 
 
+# All the nodes of a tree, each one ahead of its kids and of all within them.
+def nodes_of(tree):
+    nodes = []
+    # The nodes that have yet to be met, the next one last.
+    waiting = [tree]
+    while waiting:
+        node = waiting.pop()
+        nodes.append(node)
+        waiting.extend(node.kids[::-1])
+    return nodes
+
+
 def numbers_of_labels(labels):
     numbers = [len(labels)]
     for label in labels:
@@ -42,12 +54,8 @@ def numbers_of_labels(labels):
 # Every length and count stands ahead of what it counts, so no two trees have the same numbers.
 def numbers_of(tree):
     numbers = []
-    # The nodes that have yet to be told, the next one last.
-    waiting = [tree]
-    while waiting:
-        node = waiting.pop()
+    for node in nodes_of(tree):
         numbers.append(KIND_NUMBERS[node.kind])
         numbers.extend(numbers_of_labels(node.labels))
         numbers.append(len(node.kids))
-        waiting.extend(node.kids[::-1])
     return numbers

@@ -2,7 +2,7 @@
 
 import unittest
 
-from recipetexts.texts import part, plain, put, same, tree, where
+from recipetexts.texts import part, plain, put, same, sizes, tree, where
 
 # One text for each refusal of reading.
 REFUSED = (
@@ -94,6 +94,10 @@ def depth_of(unfolded):
     return 1 + max([depth_of(kid) for kid in unfolded[2]], default=0)
 
 
+def count_nodes(unfolded):
+    return 1 + sum(count_nodes(kid) for kid in unfolded[2])
+
+
 def lead(unfolded, path):
     """The tree to which the path leads, None if it leads nowhere."""
     for number in path:
@@ -151,10 +155,15 @@ class RecipeTest(unittest.TestCase):
         self.assertEqual(where(as_bytes(written)), [0, 0], written)
 
     def assert_prints(self, written, printed):
-        """The print comes out, it is its own print, and it has the same tree."""
+        """The print comes out of each call that prints, it is its own print, and it has the same tree and sizes."""
         self.assert_reads(written)
-        self.assertEqual(plain(as_bytes(written)), [0] + as_bytes(printed), written)
-        self.assertEqual(plain(as_bytes(printed)), [0] + as_bytes(printed), printed)
+        text, answer = as_bytes(written), [0] + as_bytes(printed)
+        self.assertEqual(plain(text), answer, written)
+        self.assertEqual(plain(as_bytes(printed)), answer, printed)
+        self.assertEqual(part(text, []), answer, written)
+        self.assertEqual(put(as_bytes("1"), [], text), answer, written)
+        self.assertEqual(sizes(text)[3], len(printed), written)
+        self.assertEqual(sizes(as_bytes(printed)), sizes(text), written)
         self.assert_same(written, printed)
 
     def assert_fault(self, written, number, place):
@@ -162,6 +171,7 @@ class RecipeTest(unittest.TestCase):
         self.assertEqual(where(text), [number, place], written)
         self.assertEqual(plain(text), [-number], written)
         self.assertEqual(tree(text), [-number], written)
+        self.assertEqual(sizes(text), [-number], written)
         self.assertEqual(same(text, as_bytes("1")), [-number], written)
         self.assertEqual(same(as_bytes("1"), text), [-number - 10], written)
         for path in [[], [1000]]:
@@ -191,3 +201,12 @@ class RecipeTest(unittest.TestCase):
         self.assertEqual(put(as_bytes(written), path, as_bytes(other)), [0] + as_bytes(printed), (written, path, other))
         self.assertEqual(plain(as_bytes(printed)), [0] + as_bytes(printed), printed)
         self.assertEqual(part(as_bytes(printed), path), plain(as_bytes(other)), (written, path, other))
+
+    def assert_sizes(self, written, nodes, depth, printed):
+        """These sizes are told, and the last one is that of the print wherever there is one."""
+        self.assertEqual(sizes(as_bytes(written)), [0, nodes, depth, printed], written)
+        answer = plain(as_bytes(written))
+        if printed > 2048:
+            self.assertEqual(answer, [-8], written)
+        else:
+            self.assertEqual(len(answer), printed + 1, written)

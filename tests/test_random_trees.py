@@ -1,10 +1,10 @@
-"""Trees made at random, written with blanks, comments and parentheses at random, then told, compared and cut."""
+"""Trees made at random, written with blanks, comments and parentheses at random, then handed to each call."""
 
 import random
 import unittest
 
-from recipetexts.texts import part, plain, put, same, tree
-from tests.helper import OPERATORS, as_bytes, depth_of, fold, lead, replace, unfold
+from recipetexts.texts import part, plain, put, same, sizes, tree
+from tests.helper import OPERATORS, as_bytes, count_nodes, depth_of, fold, lead, replace, unfold
 
 NAMES = ("a", "b", "x-", "letter", "B_2", "or-else")
 NUMBERS = ("0", "7", "10", "9" * 30)
@@ -166,6 +166,15 @@ class RandomTrees(unittest.TestCase):
             self.assertEqual(unfold(tree(first)[1:]), made)
             met.add(made[0])
         self.assertEqual(met, set(range(1, 33)) - {18})
+
+    def test_the_sizes_are_those_of_the_tree(self):
+        for made, first, second in short_recipes(500):
+            counted = sizes(first)
+            self.assertEqual(counted[:3], [0, count_nodes(made), depth_of(made)], bytes(first))
+            self.assertEqual(sizes(second), counted, bytes(second))
+            printed = plain(first)
+            if printed != [-8]:
+                self.assertEqual(counted[3:], [len(printed) - 1], bytes(first))
 
     def test_two_texts_of_one_tree_are_the_same(self):
         for made, first, second in short_recipes(500):

@@ -2,7 +2,7 @@
 
 import unittest
 
-from tests.helper import OPERATORS, REFUSED, RecipeTest, as_bytes, crowded_recipe, node, tree_of, unfold
+from tests.helper import OPERATORS, REFUSED, RecipeTest, as_bytes, count_nodes, crowded_recipe, node, tree_of, unfold
 
 ONE = node(1, ["1"])
 TWO = node(1, ["2"])
@@ -246,10 +246,6 @@ def written_applyings(unfolded):
     kind, labels, kids = unfolded
     inner = "".join(labels) + "".join(written_applyings(kid) for kid in kids)
     return {1: inner, 5: inner, 7: "[" + inner + "]", 11: inner}[kind]
-
-
-def count_nodes(unfolded):
-    return 1 + sum(count_nodes(kid) for kid in unfolded[2])
 
 
 class ManyNodes(RecipeTest):
